@@ -1,8 +1,9 @@
 import unittest
 
 from commonforms.errors import FormError, NoForm, TooMany
+from commonforms.fillings import filled
 from commonforms.forms import gaps, looked, plain, rank
-from samples import bush, chain, gap, small_forms, tie
+from samples import bush, chain, gap, small_fillings, small_forms, tie
 
 
 def places(form):
@@ -187,6 +188,16 @@ class Rank(unittest.TestCase):
     def test_plain_forms_have_the_same(self):
         for form in small_forms():
             self.assertEqual(rank(form), rank(plain(form)))
+
+    def test_what_a_form_is_filled_to_has_a_higher_one_or_is_alike(self):
+        for form in small_forms():
+            for filling in small_fillings():
+                told = filled(form, filling)
+                with self.subTest(form=form, filling=filling):
+                    if plain(told) == plain(form):
+                        self.assertEqual(rank(form), rank(told))
+                    else:
+                        self.assertLess(rank(form), rank(told))
 
 
 class Plain(unittest.TestCase):
