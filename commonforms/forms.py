@@ -49,8 +49,12 @@ def rank(form):
 
 
 # Filled all at once, so a new number that is also an old one is not taken for it.
-def plain(form):
+def numbered_from(form, start):
     anew = {}
-    for place, number in enumerate(gaps(form)):
+    for place, number in enumerate(gaps(form), start=start):
         anew[number] = ("gap", place)
     return filled(form, anew)
+
+
+def plain(form):
+    return numbered_from(form, 0)

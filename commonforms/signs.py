@@ -1,4 +1,4 @@
-"""The signs of a form: their order and how deep they lie."""
+"""The signs of a form: their kinds, their order and how deep they lie."""
 
 
 def is_gap(form):
@@ -7,6 +7,13 @@ def is_gap(form):
 
 def parts_of(form):
     return () if is_gap(form) else form[2]
+
+
+# Only ties have a kind: two gaps of one number may still stand for different forms.
+def of_one_kind(one, other):
+    if is_gap(one) or is_gap(other):
+        return False
+    return one[1] == other[1] and len(one[2]) == len(other[2])
 
 
 # Each sign is told as the form that begins with it, so that its parts are at hand.

@@ -49,6 +49,52 @@ def bound_names(tree):
     return names
 
 
+def top_names(tree):
+    """The names that a file binds at its top, but for those it draws from others."""
+    names = []
+    for node in tree.body:
+        if isinstance(node, (ast.FunctionDef, ast.ClassDef)):
+            names.append(node.name)
+        elif isinstance(node, ast.Assign):
+            names += [target.id for target in node.targets]
+    return names
+
+
+def inner_names(tree):
+    """Every parameter and local of a file."""
+    names = []
+    for node in ast.walk(tree):
+        if isinstance(node, (ast.FunctionDef, ast.Lambda)):
+            names += [argument.arg for argument in node.args.args]
+            names += [
+                inner.id for inner in ast.walk(node) if isinstance(inner, ast.Name) and isinstance(inner.ctx, ast.Store)
+            ]
+        elif isinstance(node, ast.ExceptHandler) and node.name:
+            names.append(node.name)
+    return names
+
+
+def is_walk(node):
+    """Whether this is a call whose answer is to be walked on the spot."""
+    if not isinstance(node, ast.Call):
+        return False
+    if isinstance(node.func, ast.Name):
+        return node.func.id in ("zip", "enumerate", "reversed", "range")
+    return isinstance(node.func, ast.Attribute) and node.func.attr in ("items", "keys", "values")
+
+
+def walked_on_the_spot(tree):
+    """Every node that stands where something is walked on the spot."""
+    nodes = []
+    for node in ast.walk(tree):
+        if isinstance(node, (ast.For, ast.comprehension)):
+            nodes.append(node.iter)
+        elif isinstance(node, ast.Call) and isinstance(node.func, ast.Name):
+            if node.func.id in ("list", "tuple", "dict", "sorted", "sum", "any", "all", "enumerate", "zip"):
+                nodes += node.args[:1]
+    return nodes
+
+
 def drawn_from(tree):
     return [node.module for node in ast.walk(tree) if isinstance(node, ast.ImportFrom)]
 
@@ -80,6 +126,37 @@ class Language(unittest.TestCase):
                     self.assertEqual(node.level, 0, path)
                     self.assertTrue(node.module.startswith("commonforms."), path)
                     self.assertNotIn("*", [alias.name for alias in node.names], path)
+
+    def test_names_are_drawn_from_the_file_that_defines_them(self):
+        tops = {"commonforms." + path.stem: top_names(tree) for path, tree in self.trees.items()}
+        for path, tree in self.trees.items():
+            for node in ast.walk(tree):
+                if isinstance(node, ast.ImportFrom):
+                    for alias in node.names:
+                        self.assertIn(alias.name, tops[node.module], path)
+                        self.assertIsNone(alias.asname, path)
+
+    def test_each_name_once(self):
+        for path, tree in self.trees.items():
+            drawn = [alias.name for node in tree.body if isinstance(node, ast.ImportFrom) for alias in node.names]
+            tops = drawn + top_names(tree)
+            self.assertEqual(sorted(tops), sorted(set(tops)), path)
+            classes = [node.name for node in tree.body if isinstance(node, ast.ClassDef)]
+            self.assertEqual(set(inner_names(tree)) & set(drawn + classes), set(), path)
+
+    def test_walked_at_once(self):
+        for path, tree in self.trees.items():
+            spots = walked_on_the_spot(tree)
+            for node in ast.walk(tree):
+                if is_walk(node):
+                    self.assertTrue(any(node is spot for spot in spots), f"{path}:{node.lineno}")
+
+    def test_no_sets_and_no_letters_by_number(self):
+        for path, tree in self.trees.items():
+            for node in ast.walk(tree):
+                self.assertNotIsInstance(node, ast.Set, path)
+                if isinstance(node, ast.Name):
+                    self.assertNotIn(node.id, ("set", "frozenset", "chr"), path)
 
     def test_no_two_files_draw_from_one_another(self):
         draws = {"commonforms." + path.stem: drawn_from(tree) for path, tree in self.trees.items()}
